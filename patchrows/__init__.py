@@ -1,0 +1,1 @@
+"""Rows of patches up to commuting: one form, needs, picked, taken out."""
