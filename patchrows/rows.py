@@ -1,8 +1,12 @@
-"""Rows of patches: brought to the front or behind others, the one form, what a patch needs."""
+"""Rows of patches: as numbers, brought to the front or behind others, the one form, what a patch needs."""
 
 from patchrows.commuting import commuted
-from patchrows.steps import step_numbers
-from patchrows.trees import applied
+from patchrows.reading import NotWhole, Reader
+from patchrows.steps import read_step, step_numbers
+from patchrows.trees import applied, fits
+
+LAST_PATCH_NAME = 99
+MOST_PATCHES = 10
 
 
 class Patch:
@@ -28,6 +32,27 @@ def row_numbers(row):
         numbers.append(patch.name)
         numbers.extend(step_numbers(patch.step))
     return numbers
+
+
+def read_patch(reader):
+    name = reader.read_number(0, LAST_PATCH_NAME)
+    return Patch(name, read_step(reader))
+
+
+def row_from_numbers(numbers, tree):
+    reader = Reader(numbers)
+    row = []
+    there = tree
+    for place in range(reader.read_number(0, MOST_PATCHES)):
+        patch = read_patch(reader)
+        if place_of(row, patch.name) is not None:
+            raise NotWhole("a name told twice")
+        if not fits(patch.step, there):
+            raise NotWhole("a step that doesn't fit")
+        there = applied(patch.step, there)
+        row.append(patch)
+    reader.read_end()
+    return row
 
 
 def outcome_of(tree, row):
@@ -87,6 +112,23 @@ def one_form(row):
     return form
 
 
+def are_equal(row, other):
+    return row_numbers(one_form(row)) == row_numbers(one_form(other))
+
+
+# Gives those that are in their places and the others behind them; it stops at the first that can't be brought there.
+def brought_in_order(row, names):
+    placed = []
+    rest = row
+    for name in names:
+        then = brought_to_front(rest, place_of(rest, name))
+        if then is None:
+            return (placed, rest)
+        placed.append(then[0])
+        rest = then[1:]
+    return (placed, rest)
+
+
 def needed_names(row, place):
     group = [row[place]]
     for ahead in reversed(row[:place]):
@@ -101,3 +143,18 @@ def needed_names(row, place):
 def names_needing(row, place):
     name = row[place].name
     return [row[later].name for later in range(place + 1, len(row)) if name in needed_names(row, later)]
+
+
+def names_with_needed(row, names):
+    picked = list(names)
+    for name in names:
+        picked.extend(needed_names(row, place_of(row, name)))
+    return [patch.name for patch in row if patch.name in picked]
+
+
+# Gives the row without that patch, or None if it can't be brought to the end.
+def taken_out(row, place):
+    passed = passed_by(row[place], row[place + 1:])
+    if passed is None:
+        return None
+    return row[:place] + passed

@@ -6,6 +6,8 @@ ROW = [2]
 OUTCOME = [3]
 FRONTS = [6]
 FORM = [7]
+COUNT = [9]
+RANK = [11]
 FAR = 10 ** 18
 
 
@@ -23,6 +25,26 @@ def needs(name):
 
 def neededby(name):
     return [5, name]
+
+
+def equal(numbers):
+    return [8, len(numbers)] + numbers
+
+
+def kth(number):
+    return [10, number]
+
+
+def order(names):
+    return [12, len(names)] + names
+
+
+def pick(names):
+    return [13, len(names)] + names
+
+
+def drop(name):
+    return [14, name]
 
 
 def hunk(file, place, old, new):

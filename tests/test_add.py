@@ -1,7 +1,7 @@
 import unittest
 
-from tests.lines import (FAR, FORM, FRONTS, OUTCOME, ROW, add, added, adds, ask, files, hunk, last, moved, needs,
-                         neededby, removed, swap, tree)
+from tests.lines import (COUNT, FAR, FORM, FRONTS, OUTCOME, RANK, ROW, add, added, adds, ask, drop, equal, files, hunk,
+                         kth, last, moved, needs, neededby, order, pick, removed, swap, tree)
 
 TOKENS = [1, 2, 3, 4, 5, 6, 7, 8, 9, 10, 11, 12]
 START = {0: TOKENS, 1: [], 2: [20, 21, 20]}
@@ -125,12 +125,20 @@ class WithoutATree(unittest.TestCase):
         self.assertEqual(ask(*calls), [[-8]] * 7)
 
     def test_the_calls_of_order_and_equality_are_refused(self):
-        calls = [[8, 1, 0], [9], [10, 0], [11], [12, 0], [13, 2, 1, 1], [14, 1], [10, -1], ROW]
-        self.assertEqual(ask(*calls), [[-8]] * 9)
+        for call in (equal([0]), COUNT, kth(0), RANK, order([]), pick([]), drop(1)):
+            with self.subTest(call):
+                self.assertEqual(ask(call), [[-8]])
+                self.assertEqual(ask(call, ROW, call), [[-8]] * 3)
 
     def test_it_goes_ahead_of_every_other_refusal(self):
-        calls = [add(100, GOOD_STEP), add(-1, []), add(1, []), add(1, removed(0)), needs(FAR), neededby(-FAR)]
-        self.assertEqual(ask(*calls), [[-8]] * 6)
+        calls = [add(100, GOOD_STEP), add(-1, []), add(1, []), add(1, removed(0)), needs(FAR), neededby(-FAR),
+                 equal([]), equal([11]), equal([1, 5] + added(3)), kth(-1), kth(FAR), order([1, 1]), order([-FAR]),
+                 pick([1, 1]), pick([FAR]), drop(-1)]
+        self.assertEqual(ask(*calls), [[-8]] * len(calls))
+
+    def test_also_behind_a_refused_tree(self):
+        calls = [equal([0]), COUNT, kth(0), RANK, order([]), pick([]), drop(1)]
+        self.assertEqual(ask(tree([7]), *calls), [[-1]] + [[-8]] * 7)
 
     def test_nothing_is_kept_of_what_was_refused(self):
         self.assertEqual(ask(add(1, GOOD_STEP), tree([0]), ROW, OUTCOME), [[-8], [0], [0], [0]])

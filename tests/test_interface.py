@@ -2,12 +2,16 @@ import unittest
 
 import patchrows.history
 from patchrows.history import answers
-from tests.lines import FORM, FRONTS, OUTCOME, ROW, add, added, ask, needs, neededby, tree
+from tests.lines import (COUNT, FORM, FRONTS, OUTCOME, RANK, ROW, add, added, ask, drop, equal, kth, needs, neededby,
+                         order, pick, tree)
 
 LINE = (tree([1, 0, 2, 5, 6]) + add(3, [0, 0, 0, 1, 5, 0]) + add(2, added(4)) + add(3, added(5)) + needs(3)
-        + neededby(8) + FRONTS + FORM + ROW + OUTCOME)
+        + neededby(8) + FRONTS + FORM + ROW + OUTCOME + COUNT + kth(1) + kth(2) + kth(-1) + RANK + order([2, 3])
+        + order([]) + pick([3]) + pick([4]) + equal([1, 2, 2, 4]) + equal([]) + drop(3) + equal([1, 2, 2, 4]) + ROW)
 ANSWERED = ([1, 1] + [1, 0] + [1, 1] + [1, -3] + [1, 0] + [1, -2] + [3, 2, 2, 3]
-            + [11, 2, 2, 2, 4, 3, 0, 0, 0, 1, 5, 0] + [11, 2, 3, 0, 0, 0, 1, 5, 0, 2, 2, 4] + [6, 2, 0, 1, 6, 4, 0])
+            + [11, 2, 2, 2, 4, 3, 0, 0, 0, 1, 5, 0] + [11, 2, 3, 0, 0, 0, 1, 5, 0, 2, 2, 4] + [6, 2, 0, 1, 6, 4, 0]
+            + [1, 2] + [4, 1, 2, 3, 2] + [1, 0] + [1, -4] + [1, 1] + [1, 1]
+            + [1, -7] + [3, 1, 1, 3] + [1, -2] + [1, 0] + [1, -5] + [2, 1, 1] + [1, 1] + [4, 1, 2, 2, 4])
 
 
 class Interface(unittest.TestCase):

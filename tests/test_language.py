@@ -25,6 +25,7 @@ STATEMENTS = (ast.Assign, ast.AugAssign, ast.If, ast.While, ast.For, ast.Return,
 EXPRESSIONS = (ast.BoolOp, ast.BinOp, ast.UnaryOp, ast.IfExp, ast.Compare, ast.Call, ast.Attribute, ast.Subscript,
                ast.Slice, ast.ListComp, ast.Name, ast.Constant, ast.List, ast.Tuple, ast.Dict)
 WALKED = ("range", "enumerate", "zip", "reversed")
+WALKERS = ("list", "tuple", "dict", "sorted", "sum", "any", "all", "enumerate", "zip", "min", "max")
 
 
 def nodes(source, *kinds):
@@ -40,8 +41,22 @@ def bound(source):
     return stored + [node.arg for node in nodes(source, ast.arg)] + defined(source)
 
 
-def assigned_values(source):
-    return [node.value for node in nodes(source, ast.Assign, ast.Return)]
+def calls_of(source, names):
+    return [node for node in nodes(source, ast.Call) if isinstance(node.func, ast.Name) and node.func.id in names]
+
+
+def walked_on_the_spot(source):
+    """Where each thing stands that a loop, a comprehension or a walker walks at once."""
+    loops = [node.iter for node in nodes(source, ast.For, ast.comprehension)]
+    return [at(node) for node in loops + [call.args[0] for call in calls_of(source, WALKERS) if call.args]]
+
+
+def at(node):
+    return (node.lineno, node.col_offset)
+
+
+def at_those_within(source, names):
+    return [at(call.args[0]) for call in calls_of(source, names)]
 
 
 class Language(unittest.TestCase):
@@ -101,5 +116,13 @@ class Language(unittest.TestCase):
         self.none(sorted(values & set(own)))
 
     def test_what_is_walked_is_not_kept(self):
-        self.each(lambda source: [ast.dump(value) for value in assigned_values(source) if isinstance(value, ast.Call)
-                                  and isinstance(value.func, ast.Name) and value.func.id in WALKED])
+        self.each(lambda source: [ast.dump(call) for call in calls_of(source, WALKED)
+                                  if at(call) not in walked_on_the_spot(source)])
+
+    def test_sets_are_counted_or_sorted_at_once(self):
+        self.each(lambda source: [ast.dump(call) for call in calls_of(source, ("set", "frozenset"))
+                                  if at(call) not in at_those_within(source, ("len", "sorted"))])
+
+    def test_one_name_takes_what_is_assigned(self):
+        self.each(lambda source: [ast.dump(node) for node in nodes(source, ast.Assign)
+                                  if isinstance(node.targets[0], (ast.Tuple, ast.List))])
